@@ -1,0 +1,1 @@
+"""Texts cut by any table of rules, edited in the middle."""
