@@ -28,6 +28,11 @@ class Automata:
         return self.verdicts[self.state_before(before)][self.state_after(after)]
 
 
+def mirrored(automata):
+    """The automata of rows that are turned about: what stood before stands after."""
+    return Automata(automata.after, automata.before, tuple(zip(*automata.verdicts)))
+
+
 def first_in(numbers):
     """The least number in a set of numbers that is told as bits, -1 for the empty one."""
     return (numbers & -numbers).bit_length() - 1
@@ -35,8 +40,8 @@ def first_in(numbers):
 
 def automata_of(befores, afters, answers):
     """The automata of two crowds; answers has one for each rule, and behind them the one where no rule fits."""
-    before_fits, before_steps = _reached(befores)
-    after_fits, after_steps = _reached(afters)
+    before_fits, before_steps = reached(befores)
+    after_fits, after_steps = reached(afters)
     before_parts = _alike(_told(before_fits, after_fits, answers), before_steps)
     after_parts = _alike(_told(after_fits, before_fits, answers), after_steps)
     before_firsts = _firsts(before_parts)
@@ -51,7 +56,7 @@ def automata_of(befores, afters, answers):
     )
 
 
-def _reached(crowd):
+def reached(crowd):
     """For all states that rows reach, in the order in which they do: the sides that fit, and the steps."""
     states = [crowd.begin]
     numbers = {crowd.begin: 0}

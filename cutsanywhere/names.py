@@ -4,6 +4,7 @@ SMALL_LETTERS = "abcdefghijklmnopqrstuvwxyz"
 WORD_SIGNS = "abcdefghijklmnopqrstuvwxyz0123456789_"
 LONGEST_WORD = 30
 OTHER = "other"
+KEEP = "keep"
 VERDICTS = ("keep", "may", "must")
 OWN_WORDS = ("class", "keep", "may", "must", "hide", "else", "any", "not", "start", "end")
 

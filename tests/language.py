@@ -150,7 +150,7 @@ class Finder:
 
     def named(self, name, node):
         barred = name in BARRED or re.match("_(wall|pe_|dcw_|enum_|cm_|twin_re_|lay_|law_|stub_|sre|WallAttr)", name)
-        if barred or (name in BUILTINS and name not in ("copy",)) or not name.isascii():
+        if barred or (name in dir(builtins) and name not in ("copy", "_")) or not name.isascii():
             self.tell("L12", node)
 
     def on_attribute(self, node):
@@ -162,6 +162,10 @@ class Finder:
             self.tell("L26", node)
 
     def on_call(self, node):
+        for part in node.args:
+            if isinstance(part, ast.Starred) and not isinstance(part.value, (ast.Name, ast.List, ast.Tuple)):
+                if not (isinstance(part.value, ast.Attribute) and isinstance(part.value.value, ast.Name)):
+                    self.tell("L7 star", node)
         if isinstance(node.func, ast.Attribute) and node.func.attr not in self.methods | {"__init__"}:
             self.tell("L25", node)
         if isinstance(node.func, ast.Name) and node.func.id in ("set",) and node.keywords:

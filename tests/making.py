@@ -1,11 +1,13 @@
 """Patterns and tables by chance (of a fixed seed), rows, and the definitions told a second time, for the tests."""
 
 import itertools
+import random
 import re
 
 from cutsanywhere.classes import Classes
 from cutsanywhere.patterns import does_match
-from cutsanywhere.tables import Table
+from cutsanywhere.tablereader import read_table
+from cutsanywhere.tables import Table, is_light
 
 VERDICTS = ("keep", "may", "must")
 ABC = Classes([("a", ((97, 97),)), ("b", ((98, 98),))])  # and other
@@ -64,6 +66,71 @@ def tables_by(chance, many, classes=(ABC, FULL)):
         names = (*map_of_classes.names, "other")
         lines = lines_by(chance, names, pattern_by, chance.randrange(1, 5))
         yield Table(map_of_classes, lines, chance.choice(VERDICTS))
+
+
+# Tables within and beyond on each side, with hide lines, bound sides, and patterns that go on for ever.
+LIGHT_TEXTS = (
+    "else may",
+    "else keep",
+    "class a 'a'\nkeep a | a\nelse may",
+    "class a 'a'\nkeep a any | a\nelse may",
+    "class a 'a'\nkeep | a any any end\nelse must",
+    "class dot '.'\nkeep start (dot dot)* dot | dot\nelse may",
+    "class dot '.'\nkeep dot | dot (dot dot)* end\nelse may",
+    "class dot '.'\nkeep start (dot dot)* dot | dot (dot dot)* end\nelse must",
+    "class letter 'a'-'z'\nclass quote U+0027\nkeep letter | letter\nkeep letter quote | letter\n"
+    "keep letter | quote letter\nelse may",
+    "class a 'a'\nclass mark U+0300-U+0344\nkeep any | mark\nhide mark\nmust a | a\nmay start a+ | a+ end\nelse keep",
+    "class a 'a'\nclass b 'b' U+1F600\nmust a | a\nhide other\nkeep a | b\nhide b\nmay start a+ | a+ end\nelse must",
+    "class a U+0000-U+D7FF\nclass b U+E000-U+10FFFF\nkeep a | (b a)*\nmay start b | not other\nelse keep",
+    "class a 'a'\nclass b 'b'\nmay any not other other+ | not other\nelse must",
+    "class a 'a'\nmay any | any\nkeep start | a\nmust a | end\nelse keep",
+    "class a 'a'\nclass b 'b'\nkeep start (not a)* | b\nmust a (b / other)* a | (a / b) any* a\nelse may",
+    "class flag U+1F1E6-U+1F1FF\nclass mark U+0300-U+0344\nkeep any | mark\nhide mark\n"
+    "keep start (not flag / flag flag)* flag | flag\nelse may",
+)
+
+
+def light_tables(seed, many):
+    """Light tables by hand, and so many by chance."""
+    yield from [read_table(text) for text in LIGHT_TEXTS]
+    yield from itertools.islice((table for table in tables_by(random.Random(seed), 9 * many) if is_light(table)), many)
+
+
+def letters_of(table):
+    """Characters of every class of a table: the first and the last one of each."""
+    return "".join(chr(stretches[0][0]) + chr(stretches[-1][1]) for stretches in table.classes.ranges)
+
+
+def texts_of(table, length):
+    """All texts of one character of each class, of at most so many characters."""
+    letters = [chr(stretches[-1][1]) for stretches in table.classes.ranges]
+    for size in range(length + 1):
+        for told in itertools.product(letters, repeat=size):
+            yield "".join(told)
+
+
+def text_by(chance, table, size):
+    return "".join(chance.choice(letters_of(table)) for _ in range(size))
+
+
+def rows_to_states(ways, many):
+    """For each state the first row, of those that are read from the left, that leads to it."""
+    rows, left = {0: ()}, [0]
+    for state in left:
+        for number in range(many):
+            to = ways[state][number]
+            if to not in rows:
+                rows[to] = rows[state] + (number,)
+                left.append(to)
+    return [rows[state] for state in range(len(ways))]
+
+
+def both_rows(table):
+    """Rows for all states before, and rows for all states after, as they stand in texts."""
+    automata, many = table.automata(), len(table.classes.names)
+    befores = rows_to_states(automata.before, many)
+    return befores, [row[::-1] for row in rows_to_states(automata.after, many)]
 
 
 def regex_of(pattern, names):

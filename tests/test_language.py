@@ -79,6 +79,7 @@ class FinderTest(unittest.TestCase):
             "def f(xs):\n    for x in xs:\n        xs.append(x)\n", "def f(x):\n    global y\n    y = x\n",
             "def f():\n" + "    a = 1\n" * 40, "a = 1\n" * 0 + "# " + "x" * 120 + "\n", "class A:\n    pass\nA.b = 1\n",
             "class A:\n    def __getitem__(self, at):\n        return at\n", "def f(x):\n    return (y := x)\n",
+            "def f(x):\n    return list(zip(*x.y.z))\n", "def f(map):\n    return map\n", "def f(x):\n    hash = x\n    return hash\n",
         )
         for text in texts:
             self.assertTrue(Finder(text, "cutsanywhere", set()).found, text)
