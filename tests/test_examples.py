@@ -1,4 +1,14 @@
-r"""The examples of the document's interface, word for word, one after the other.
+r"""The examples of the document, at its head and in its interface, word for word, one after the other.
+
+>>> from cutsanywhere.cutting import units_of
+>>> from cutsanywhere.forgetting import reach
+>>> from cutsanywhere.tablereader import read_table
+>>> words = read_table("class letter 'a'-'z'\nclass quote U+0027\nkeep letter | letter\nkeep letter quote | letter\nkeep letter | quote letter\nelse may")
+>>> units_of(words, "don't 'ask'"), reach(words)
+(("don't", ' ', "'", 'ask', "'"), ('within', 2, 2))
+>>> pairs = read_table("class dot '.'\nkeep start (dot dot)* dot | dot\nelse may")
+>>> units_of(pairs, "....."), reach(pairs)[:2]
+(('..', '..', '.'), ('beyond', 'before'))
 
 >>> from cutsanywhere.signs import point_by, point_text, points_of, text_of
 >>> points_of(text_of([97, 769, 128512])), point_text(233), point_by("1F600"), point_by("D800")
@@ -37,6 +47,52 @@ r"""The examples of the document's interface, word for word, one after the other
 >>> from cutsanywhere.tablewriter import table_text
 >>> read_table(table_text(read)).lines == read.lines
 True
+
+>>> from cutsanywhere.cutting import Cutter, cuts_of, units_of, verdicts_of
+>>> verdicts_of(table, "ab!e"), cuts_of(table, "ab!e"), units_of(table, "ae!b")
+(('may', 'may', 'may', 'may', 'may'), (1, 2, 3), ('ae', '!', 'b'))
+>>> Cutter(table)("b") == verdicts_of(table, "b")
+True
+
+>>> from cutsanywhere.forgetting import least_many, ranks_of, reach, shows_beyond, shows_within
+>>> two = read_table("class a 'a'\nkeep a any | a\nelse may")
+>>> reach(two), least_many(table, "before"), shows_within(two, "before", 2, ranks_of(two, "before"))
+(('within', 2, 1), None, True)
+>>> word, side, evidence = reach(table)
+>>> word, side, shows_beyond(table, side, evidence)
+('beyond', 'before', True)
+
+>>> from cutsanywhere.comparing import SAME, are_alike, compare, is_finer
+>>> one = read_table("class a 'a'\nkeep a | a\nelse may")
+>>> is_finer(two, one), compare(one, one, SAME)[0], compare(one, two, SAME)[0], are_alike(one, read_table("class a 'a'\nkeep a | a a*\nelse may"))
+(False, 'always', 'not', True)
+
+>>> from cutsanywhere.deciding import rule_place, slim
+>>> twice = read_table("class a 'a'\nkeep a | a\nmust a | a\nelse may")
+>>> rule_place(twice, 0), rule_place(twice, 1), len(slim(twice)[0].rules)
+(('at', (0,), (0,)), ('never',), 1)
+
+>>> from cutsanywhere.streams import Stream
+>>> stream = Stream(one)
+>>> stream.feed("ba"), stream.waiting, stream.feed("a"), stream.end()
+([(0, 'may'), (1, 'may')], (2,), [(2, 'keep')], [(3, 'may')])
+
+>>> from cutsanywhere.sums import sum_of
+>>> (sum_of(one, "baa") + sum_of(one, "ab")).told(), sum_of(one, "baa").cell(0, 0), sum_of(one, "").told()
+((2, 3), (1, 1, 2, 0), (0, 0))
+
+>>> from cutsanywhere.resets import known_from, reset, shows_reset
+>>> shows_reset(two, (1, 1)), known_from(two, "abab", 3), reset(read_table("class dot '.'\nkeep start (any any)* | any\nelse may"))[0]
+(True, 1, 'never')
+
+>>> from cutsanywhere.counting import how_many
+>>> how_many(one, (1, 25), 2), sum(how_many(one, (1, 25), 3))
+((0, 0, 1, 675), 17576)
+
+>>> from cutsanywhere.windows import by_windows, windows
+>>> found = windows(one)
+>>> found[:2], found[2][((0,), (0,))], len(found[2]), by_windows(found, (0, 0, 1))
+((1, 1), 'keep', 9, ('may', 'keep', 'may', 'may'))
 """
 
 import doctest
