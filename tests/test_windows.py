@@ -118,7 +118,7 @@ class BeyondTest(unittest.TestCase):
 
 class TooManyTest(unittest.TestCase):
     def test_more_than_so_many_pairs(self):
-        for many, before, after in ((2, 6, 6), (3, 4, 4), (20, 2, 2), (5, 3, 3), (17, 2, 1), (17, 1, 2), (2, 8, 8), (20, 8, 8), (20, 4, 0)):
+        for many, before, after in ((2, 6, 6), (3, 4, 4), (20, 2, 2), (5, 3, 3), (17, 2, 1), (17, 0, 3), (2, 8, 8), (20, 8, 8), (20, 4, 0)):
             table = wide(many, before, after)
             self.assertTrue(is_light(table))
             self.assertEqual(reach(table), ("within", before, after))
@@ -135,10 +135,11 @@ class TooManyTest(unittest.TestCase):
             found = windows(table)
             self.assertEqual((found[:2], len(found[2])), ((before, after), size))
 
-    def test_at_the_bound(self):
-        # 70 rows on each side are 4,900 pairs, 71 are 5,041.
-        self.assertEqual(len(windows(wide(69, 1, 1))[2]), 4900)
-        self.assertRaises(TooMany, windows, wide(70, 1, 1))
+    def test_next_to_the_bound(self):
+        # With 2 to 20 classes, no numbers of characters come nearer to 5,000 pairs.
+        self.assertEqual([len(windows(wide(3, *told))[2]) for told in ((3, 4), (4, 3))], [4840, 4840])
+        for told in ((0, 3), (3, 0)):
+            self.assertRaises(TooMany, windows, wide(17, *told))  # 5,220 pairs
 
 
 if __name__ == "__main__":
