@@ -1,8 +1,8 @@
 """Counts texts by how many positions they have at which a cut is possible."""
 
+from cutsanywhere.checks import are_between, check_between
 from cutsanywhere.errors import BadThing
 from cutsanywhere.names import KEEP
-from cutsanywhere.signs import is_integer
 
 MOST_WEIGHT = 1000000
 MOST_LENGTH = 40
@@ -10,10 +10,9 @@ MOST_LENGTH = 40
 
 def how_many(table, weights, length):
     """How many texts of a length have 0, 1, .. positions with another verdict than keep."""
-    if not _are_weights(weights, len(table.classes.names)):
+    if not are_between(weights, len(table.classes.names), MOST_WEIGHT):
         raise BadThing(weights)
-    if not is_integer(length) or not 0 <= length <= MOST_LENGTH:
-        raise BadThing(length)
+    check_between(length, 0, MOST_LENGTH)
     # All counts of one state are kept in one integer, side by side: each is at most the number of all texts.
     width = length * sum(weights).bit_length() + 1
     automata = table.automata()
@@ -24,16 +23,6 @@ def how_many(table, weights, length):
     total = sum([told[0] for told in counts.values()])
     mask = (1 << width) - 1
     return tuple([total >> width * many & mask for many in range(length + 2)])
-
-
-def _are_weights(thing, many):
-    """Whether it is a tuple of so many weights."""
-    if not isinstance(thing, tuple) or len(thing) != many:
-        return False
-    for weight in thing:
-        if not is_integer(weight) or not 0 <= weight <= MOST_WEIGHT:
-            return False
-    return True
 
 
 def _classes_with_weights(automata, weights):

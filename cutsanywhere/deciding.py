@@ -1,9 +1,9 @@
 """Which rules decide, where, and which can be left out."""
 
 from cutsanywhere.automata import first_in, reached
+from cutsanywhere.checks import is_between
 from cutsanywhere.errors import BadThing
 from cutsanywhere.nets import numbers_in
-from cutsanywhere.signs import is_integer
 from cutsanywhere.tables import Table
 from cutsanywhere.walks import rows_to, shortest_place
 
@@ -22,7 +22,7 @@ def _fits_of(crowd):
 
 def _is_number(table, number):
     """Whether it is the number of a rule."""
-    return is_integer(number) and 0 <= number < len(table.rules)
+    return is_between(number, 0, len(table.rules) - 1)
 
 
 def rule_place(table, number):

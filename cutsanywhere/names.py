@@ -11,9 +11,14 @@ OWN_WORDS = ("class", "keep", "may", "must", "hide", "else", "any", "not", "star
 
 def is_name(thing):
     """Whether it can be the name of a class: of a row, or other."""
-    if not isinstance(thing, str) or thing in OWN_WORDS:
+    return is_word(thing) and thing not in OWN_WORDS
+
+
+def is_word(thing):
+    """Whether it is a small letter, then small letters, figures and _, not too many of them."""
+    if not isinstance(thing, str) or not 0 < len(thing) <= LONGEST_WORD:
         return False
-    return 0 < len(thing) <= LONGEST_WORD and thing[0] in SMALL_LETTERS and word_end(thing, 0) == len(thing)
+    return thing[0] in SMALL_LETTERS and word_end(thing, 0) == len(thing)
 
 
 def word_end(text, at):

@@ -1,7 +1,6 @@
 """Begins in the middle of a text: what makes all that stands ahead count no more."""
 
-from cutsanywhere.errors import BadThing
-from cutsanywhere.signs import is_integer
+from cutsanywhere.checks import check_between
 from cutsanywhere.walks import are_rows, is_row, pair_of, pair_steps, pairs_ahead, walked
 
 
@@ -75,8 +74,7 @@ def shows_never(table, pairs):
 
 def known_from(table, text, position):
     """The greatest number from which on the characters ahead of a position tell the state before it; None without."""
-    if not is_integer(position) or not 0 <= position <= len(text):
-        raise BadThing(position)
+    check_between(position, 0, len(text))
     ways = table.automata().before
     row = table.classes.row_of(text[:position])
     states = list(range(len(ways)))  # for each state ahead of a place the state to which the rest leads it

@@ -1,16 +1,11 @@
 """Walks over the states of automata: rows that lead to states, and pairs of unlike states side by side."""
 
-from cutsanywhere.signs import is_integer
+from cutsanywhere.checks import are_between
 
 
 def is_row(thing, many):
     """Whether it is a row: a tuple of integers from 0 on that are less than this one."""
-    if not isinstance(thing, tuple):
-        return False
-    for number in thing:
-        if not is_integer(number) or not 0 <= number < many:
-            return False
-    return True
+    return isinstance(thing, tuple) and are_between(thing, len(thing), many - 1)
 
 
 def are_rows(thing, size, many):

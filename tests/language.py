@@ -121,6 +121,20 @@ class Finder:
         self.named(node.name, node)
         for default in node.args.defaults:
             self.plain(default)
+        if node.name == "__exit__":
+            self.exit(node)
+
+    def exit(self, function):
+        """What leaves a with statement only assigns, appends and asks whether something is there."""
+        for node in ast.walk(function):
+            if isinstance(node, (ast.BinOp, ast.Raise, ast.Try, ast.For, ast.While, ast.Delete, ast.Subscript, ast.Assert)):
+                self.tell("L6 With", node)
+            if isinstance(node, ast.Call) and not (isinstance(node.func, ast.Attribute) and node.func.attr in ("append", "clear")):
+                self.tell("L6 With", node)
+            if isinstance(node, ast.Compare) and not isinstance(node.ops[0], (ast.Is, ast.IsNot)):
+                self.tell("L6 With", node)
+            if isinstance(node, ast.Name) and isinstance(node.ctx, ast.Load) and node.id in ("value", "trace"):
+                self.tell("L6 With", node)
 
     def on_classdef(self, node):
         if node.decorator_list or node.keywords:

@@ -93,6 +93,27 @@ True
 >>> found = windows(one)
 >>> found[:2], found[2][((0,), (0,))], len(found[2]), by_windows(found, (0, 0, 1))
 ((1, 1), 'keep', 9, ('may', 'keep', 'may', 'may'))
+
+>>> from cutsanywhere.rolls import Roll
+>>> roll = Roll(one, "baab")
+>>> roll.mark("here", 3)
+>>> roll.put(2, "cc")
+>>> roll.text(), roll.cuts(), roll.place("here"), roll.take(0, 3), roll.undo(), roll.undo(), roll.text(), roll.cuts(), roll.redo()
+('baccab', (1, 2, 3, 4, 5), 5, 'bac', True, True, 'baab', (1, 3), True)
+
+>>> from cutsanywhere.cursors import Cursor
+>>> cursor = Cursor(Roll(one, "baab"))
+>>> cursor.right(), cursor.right(), cursor.where(), cursor.erase(), cursor.roll.text(), cursor.where()
+(None, None, 3, None, 'bb', 1)
+
+>>> from cutsanywhere.sessions import run_session
+>>> run_session("class a 'a'\nkeep a | a\nelse may", "put baab\nshow\nleft\nleft\nerase\nshow\nundo\nwhere\ncuts")
+['b|aa|b', 'aa|b', '0', '1 3']
+
+>>> from cutsanywhere.indexes import Index
+>>> index = Index(one, "baab")
+>>> index.count(), index.nth(1), index.before(2), index.before(4)
+(2, 3, 1, 2)
 """
 
 import doctest

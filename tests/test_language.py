@@ -80,6 +80,8 @@ class FinderTest(unittest.TestCase):
             "def f():\n" + "    a = 1\n" * 40, "a = 1\n" * 0 + "# " + "x" * 120 + "\n", "class A:\n    pass\nA.b = 1\n",
             "class A:\n    def __getitem__(self, at):\n        return at\n", "def f(x):\n    return (y := x)\n",
             "def f(x):\n    return list(zip(*x.y.z))\n", "def f(map):\n    return map\n", "def f(x):\n    hash = x\n    return hash\n",
+            "class A:\n    def __exit__(self, kind, value, trace):\n        self.n = self.n + 1\n",
+            "class A:\n    def __exit__(self, kind, value, trace):\n        self.shut(value)\n",
         )
         for text in texts:
             self.assertTrue(Finder(text, "cutsanywhere", set()).found, text)
