@@ -1,4 +1,4 @@
-"""Checks of numbers that callers pass."""
+"""Checks of numbers, and pairs of them, that callers pass."""
 
 from cutsanywhere.errors import BadThing
 from cutsanywhere.signs import is_integer
@@ -17,6 +17,11 @@ def are_between(thing, many, most):
         if not is_between(number, 0, most):
             return False
     return True
+
+
+def is_pair(thing):
+    """Whether it is a pair of integers."""
+    return isinstance(thing, tuple) and len(thing) == 2 and is_integer(thing[0]) and is_integer(thing[1])
 
 
 def check_between(thing, least, most):

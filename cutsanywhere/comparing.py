@@ -1,8 +1,8 @@
 """Compares the verdicts of two tables on all texts."""
 
+from cutsanywhere.checks import is_pair
 from cutsanywhere.classes import common_classes
 from cutsanywhere.names import KEEP, VERDICTS
-from cutsanywhere.signs import is_integer
 from cutsanywhere.walks import shortest_place
 
 SAME = (("keep", "keep"), ("may", "may"), ("must", "must"))
@@ -88,7 +88,7 @@ def _is_closed(thing, common, ways, other_ways):
     if not isinstance(thing, tuple):
         return False
     for pair in thing:
-        if not _is_pair(pair) or not 0 <= pair[0] < len(ways) or not 0 <= pair[1] < len(other_ways):
+        if not is_pair(pair) or not 0 <= pair[0] < len(ways) or not 0 <= pair[1] < len(other_ways):
             return False
     pairs = {pair: True for pair in thing}
     for x, y in thing:
@@ -96,11 +96,6 @@ def _is_closed(thing, common, ways, other_ways):
             if (ways[x][number], other_ways[y][other_number]) not in pairs:
                 return False
     return (0, 0) in pairs
-
-
-def _is_pair(thing):
-    """Whether it is a pair of integers."""
-    return isinstance(thing, tuple) and len(thing) == 2 and is_integer(thing[0]) and is_integer(thing[1])
 
 
 def shows_not(one, other, allowed, before, after):
@@ -115,7 +110,7 @@ def _is_common_row(thing, common):
     if not isinstance(thing, tuple):
         return False
     for pair in thing:
-        if not _is_pair(pair) or pair not in common:
+        if not is_pair(pair) or pair not in common:
             return False
     return True
 

@@ -5,6 +5,7 @@ WORD_SIGNS = "abcdefghijklmnopqrstuvwxyz0123456789_"
 LONGEST_WORD = 30
 OTHER = "other"
 KEEP = "keep"
+MUST = "must"
 VERDICTS = ("keep", "may", "must")
 OWN_WORDS = ("class", "keep", "may", "must", "hide", "else", "any", "not", "start", "end")
 

@@ -21,6 +21,16 @@ def is_point(thing):
     return 0 <= thing < GAP_FIRST or GAP_LAST < thing <= LAST_POINT
 
 
+def is_text(thing):
+    """Whether it is a text: a string of characters with code points alone."""
+    if not isinstance(thing, str):
+        return False
+    for character in thing:
+        if not is_point(ord(character)):
+            return False
+    return True
+
+
 def known_points():
     """The stretches of the code points that the package can write."""
     return tuple([(first, first + len(signs) - 1) for first, signs in WRITABLE])

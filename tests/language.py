@@ -5,7 +5,9 @@ It checks what can be seen file by file; the numbers are those of the language's
 
 import ast
 import builtins
+import io
 import re
+import tokenize
 import warnings
 
 BUILTINS = set(
@@ -36,6 +38,7 @@ BARRED_WORDS = re.compile(
     r"\b(type|typing|typing_extensions|enum|Enum|IntEnum|StrEnum|Flag|IntFlag|Generic|Protocol|ABC|ABCMeta|namedtuple|"
     r"NamedTuple|TypedDict|TYPE_CHECKING|abstractmethod|_wall|_WallAttr)\b|dataclass|overload|contextmanager|metaclass="
 )
+ESCAPES = re.compile(r"""([^\\]|\\[nt'"\\]|\\u[0-9a-f]{4}|\\U[0-9a-f]{8})*""")
 LIBRARY = {"heapq", "math", "itertools", "collections"}
 
 
@@ -69,6 +72,9 @@ class Finder:
                 self.tell("L14", number)
             if BARRED_WORDS.search(line.split("#")[0]):
                 self.tell("L17 word", number)
+        for token in tokenize.generate_tokens(io.StringIO(self.text).readline):
+            if token.type == tokenize.STRING and not ESCAPES.fullmatch(token.string):
+                self.tell("L27 escape", token.start[0])
 
     def module(self):
         bound = []

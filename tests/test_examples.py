@@ -114,6 +114,38 @@ True
 >>> index = Index(one, "baab")
 >>> index.count(), index.nth(1), index.before(2), index.before(4)
 (2, 3, 1, 2)
+
+>>> from cutsanywhere.changes import change_at, changed, composed, crossed, undone
+>>> cake, tea = change_at("a cup", 2, 3, "cake"), change_at("a cup", 5, 0, " of tea")
+>>> cake, crossed(cake, tea)[0], changed("a cup", composed(cake, crossed(cake, tea)[1]))
+((('skip', 2), ('put', 'cake'), ('take', 'cup')), (('skip', 2), ('put', 'cake'), ('take', 'cup'), ('skip', 7)), 'a cake of tea')
+
+>>> from cutsanywhere.shared import Meeting
+>>> meeting = Meeting("a cup", 2)
+>>> meeting.edit(0, 2, 3, "cake")
+>>> meeting.edit(1, 5, 0, " of tea")
+>>> meeting.come_up(1), [editor.text for editor in meeting.editors]
+(True, ['a cake', 'a cup of tea'])
+>>> meeting.settle() > 0, meeting.text, [editor.text for editor in meeting.editors], len(meeting.log)
+(True, 'a cake of tea', ['a cake of tea', 'a cake of tea'], 2)
+
+>>> from cutsanywhere.alignments import change_between, shows_most, units_kept
+>>> from cutsanywhere.samples import word_text
+>>> pairs, levels = units_kept(("a", " ", "cup"), ("a", " ", "big", " ", "cup"))
+>>> len(pairs), pairs[0], len(levels), shows_most(("a", "b"), ("b", "a"), ((0, 1),), {(0, 1): 1, (1, 0): 1})
+(3, (0, 0), 4, True)
+>>> change_between(read_table(word_text()), "a cup of tea", "a cup of hot tea")[1][0], changed("tea", change_between(read_table(word_text()), "tea", "hot tea"))
+('put', 'hot tea')
+
+>>> from cutsanywhere.lines import heights_for, set_lines, shows_least
+>>> spaces = read_table("class s ' '\nmay s | not s\nelse keep")
+>>> cost, ends = set_lines(spaces, (1, 1), "aaa bb cc ddddd", 6)
+>>> cost, ends, shows_least(spaces, (1, 1), "aaa bb cc ddddd", 6, ends, heights_for(spaces, (1, 1), "aaa bb cc ddddd", 6))
+(4, (4, 10, 15), True)
+
+>>> from cutsanywhere.samples import character_text
+>>> units_of(read_table(word_text()), "don't ask 3.5"), [len(unit) for unit in units_of(read_table(character_text()), text_of([101, 769, 127462, 127463, 127464]))]
+(("don't", ' ', 'ask', ' ', '3.5'), [2, 2, 1])
 """
 
 import doctest

@@ -75,6 +75,7 @@ class FinderTest(unittest.TestCase):
             "import os\n", "from os import path\n", "a = b = 1\n", "a = len('b')\n", "a = 1\na = 2\n", "x = '\u00e9'\n",
             "def f():\n    return 1.5\n", "def f(a):\n    return a / 2\n", "def f(a):\n    return chr(a)\n",
             "def f(a):\n    return a.encode()\n", "def f(len):\n    return len\n", "def f():\n    return 'a%'\n",
+            'a = "\\x41"\n', 'a = """\\\nb"""\n', 'a = "\\r"\n',
             "@f\ndef g():\n    return 1\n", "def f(x):\n    raise x\n", "def f(a, b):\n    return a is b\n",
             "def f(xs):\n    for x in xs:\n        xs.append(x)\n", "def f(x):\n    global y\n    y = x\n",
             "def f():\n" + "    a = 1\n" * 40, "a = 1\n" * 0 + "# " + "x" * 120 + "\n", "class A:\n    pass\nA.b = 1\n",
