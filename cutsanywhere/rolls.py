@@ -11,9 +11,6 @@ class Together:
 
     def __init__(self, roll):
         self.roll = roll
-        self.version = roll.version
-        self.past = roll.past
-        self.late = roll.late
 
     def __enter__(self):
         roll = self.roll

@@ -215,6 +215,18 @@ class TogetherTest(unittest.TestCase):
             roll.put(0, "y")
         self.assertEqual((roll.undo(), roll.text(), roll.undo(), roll.text()), (True, "xabc", True, "abc"))
 
+    def test_an_error_where_steps_were_done_ahead_of_the_with_statement(self):
+        roll = roll_with_both()
+        together = roll.together()
+        roll.put(0, "x")
+        before = all_states(roll)
+        with self.assertRaises(KeyError):
+            with together:
+                roll.put(0, "y")
+                raise KeyError
+        self.assertEqual(all_states(roll), before)
+        self.assertIs(roll.redo(), False)
+
     def test_one_behind_the_other(self):
         roll = rolled("")
         for piece in ("a", "b"):
