@@ -4,6 +4,7 @@ from cutsanywhere.checks import check_between, check_stretch
 from cutsanywhere.cutting import cuts_in, verdicts_of
 from cutsanywhere.errors import BadThing
 from cutsanywhere.names import is_word
+from cutsanywhere.signs import is_text
 
 
 class Together:
@@ -124,7 +125,7 @@ class Roll:
         if not isinstance(edit, tuple) or len(edit) != 3:
             raise BadThing(edit)
         word, one, other = edit
-        if word == "put" and isinstance(other, str):
+        if word == "put" and is_text(other):
             self.put(one, other)
         elif word == "take":
             self.take(one, other)

@@ -4,6 +4,7 @@ from cutsanywhere.cursors import WORDS, Cursor
 from cutsanywhere.cutting import units_of
 from cutsanywhere.errors import BadText
 from cutsanywhere.rolls import Roll
+from cutsanywhere.signs import is_text
 from cutsanywhere.tablereader import read_table
 
 QUESTIONS = ("cuts", "show", "where")
@@ -17,7 +18,7 @@ def read_commands(text):
         raise BadText(0, 0)
     commands = []
     for at, line in enumerate(text.split("\n")):
-        if line.startswith(PUT_AHEAD):
+        if line.startswith(PUT_AHEAD) and is_text(line[len(PUT_AHEAD):]):
             commands.append((PUT, line[len(PUT_AHEAD):]))
         elif line in WORDS or line in QUESTIONS:
             commands.append((line, ""))

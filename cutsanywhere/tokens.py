@@ -2,7 +2,7 @@
 
 from cutsanywhere.errors import BadText
 from cutsanywhere.names import LONGEST_WORD, SMALL_LETTERS, word_end
-from cutsanywhere.signs import FIGURES, point_by
+from cutsanywhere.signs import FIGURES, is_text, point_by
 
 SIGNS = "|()/*+?-"
 LEAST_FIGURES = 4
@@ -101,7 +101,7 @@ def _word_at(text, at):
 
 
 def _quoted_at(text, at):
-    if text[at + 2:at + 3] != "'":
+    if text[at + 2:at + 3] != "'" or not is_text(text[at + 1]):
         return None
     return "point", ord(text[at + 1]), at + 3
 

@@ -12,7 +12,7 @@ NO_STRINGS = (None, 1, True, b"show", ["show"], ("show",), {"show": 1})
 NO_COMMANDS = (
     "left ", " left", "show ", " show", "Left", "SHOW", "put", "Put x", "PUT x", " put x", "puts x", "put\tx", "left right", "show show",
     "lef", "leftt", "enter", "mark a 1", " ", "  ", "\t", "#", "# remark", "left#", "undo;", "quit", "words", "do", "cut", "\r", "left\r",
-    "\u00e9")
+    "\u00e9", "\ud800", "put \ud800", "put a\udfff", "put \udbffa")
 
 
 def place_of(call, *told):
@@ -48,6 +48,9 @@ class ReadTest(unittest.TestCase):
 
     def test_other_ends_of_lines_are_characters(self):
         self.assertEqual(read_commands("put a\rb\x0bc\u2028d\nshow"), [("put", "a\rb\x0bc\u2028d"), ("show", "")])
+
+    def test_pieces_next_to_what_is_no_code_point(self):
+        self.assertEqual(read_commands("put \ud7ff\ue000\nput \U0010ffff"), [("put", "\ud7ff\ue000"), ("put", "\U0010ffff")])
 
     def test_lines_that_are_none(self):
         for line in NO_COMMANDS:

@@ -274,7 +274,8 @@ class DoAllTest(unittest.TestCase):
         for edit in (
                 None, 1, True, "put", (), ("put",), ("put", 0), ("put", 0, "x", 1), ("take", 0), ("take", 0, 0, 0), ("mark", "a"),
                 ("mark", "a", 0, 0), ["put", 0, "x"], ["take", 0, 0], ["mark", "a", 0], ("Put", 0, "x"), ("", 0, "x"), ("undo", 0, 0),
-                (None, 0, 0), (["put"], 0, "x"), ("puts", 0, "x"), (("put", 0, "x"),), {"put": 1}, b"abc", "abc", ("put", 0, None), ("put", 0, 7)):
+                (None, 0, 0), (["put"], 0, "x"), ("puts", 0, "x"), (("put", 0, "x"),), {"put": 1}, b"abc", "abc", ("put", 0, None), ("put", 0, 7),
+                ("put", 0, b"x"), ("put", 0, ["x"]), ("put", 0, "\ud800"), ("put", 0, "x\udfff"), ("put", 99, "\udfff"), ("put", True, "\ud800")):
             yield edit, edit
         for position in (-1, 99, *NO_INTEGERS):
             yield ("put", position, "x"), position
@@ -294,6 +295,21 @@ class DoAllTest(unittest.TestCase):
                     before = all_states(roll)
                     self.assertIs(thing_of(roll.do_all, kind(right[:at] + [edit] + right[at:])), thing)
                     self.assertEqual(all_states(roll), before)
+
+    def test_pieces_with_a_number_that_is_no_code_point(self):
+        for number in range(55296, 57344):
+            character = chr(number)
+            for piece in (character, character + "ab", "a" + character + "b", "ab" + character):
+                roll = rolled("ab")
+                edit = ("put", 0, piece)
+                self.assertIs(thing_of(roll.do_all, [("put", 0, "q"), edit]), edit)
+                self.assertEqual((state(roll), roll.undo(), roll.redo()), (("ab", {}), False, False))
+
+    def test_pieces_of_any_code_points(self):
+        for piece in ("", "\x00", "\ud7ff", "\ue000", "\U0010ffff", "a\ud7ff\ue000b"):
+            roll = rolled("ab")
+            roll.do_all([("put", 1, piece)])
+            self.assertEqual((roll.text(), roll.undo(), roll.text()), ("a" + piece + "b", True, "ab"))
 
     def test_the_first_wrong_edit_is_told(self):
         roll = rolled("abc")

@@ -77,7 +77,7 @@ class RightTest(unittest.TestCase):
         self.assertEqual(rows_read("class " + "a" * 30 + " 'a'"), (("a" * 30, ((97, 97),)),))
 
     def test_characters(self):
-        for character in "a #|()/*+?-'\"U\\\t\r\x00\u00e9\u20ac\U0001f600":
+        for character in "a #|()/*+?-'\"U\\\t\r\x00\u00e9\u20ac\ud7ff\ue000\U0001f600\U0010ffff":
             self.assertEqual(rows_read(f"class a '{character}'"), (("a", ((ord(character),) * 2,)),))
         self.assertEqual(rows_read("class a '''-')'"), (("a", ((39, 41),)),))
         self.assertEqual(rows_read("class a ''''a''b'"), (("a", ((39, 39), (97, 98))),))
@@ -174,6 +174,10 @@ class TokenErrorsTest(Wrong):
         self.check("class a 'a''", 1, 12)
         self.check("class a '\n'", 1, 9)
         self.check("class a 'a' 'b # '", 1, 13)
+        for number in (55296, 56319, 56320, 57343):
+            self.check(f"class a '{chr(number)}'", 1, 9)
+            self.check(f"class a 'a'-'{chr(number)}'", 1, 13)
+            self.check(f"class a 'a'\nclass b a 'c' '{chr(number)}'", 2, 15)
 
     def test_figures(self):
         for text in ("U", "U+", "U+1", "U+12", "U+123", "U+1234567", "U+00000041", "U+D800", "U+DFFF", "U+00DABC", "U+110000",
